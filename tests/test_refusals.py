@@ -1,9 +1,12 @@
-"""What a die, a word, a race and a row are: points 2, 3 and 4, and the order of the refusals."""
+"""What a die, a word, a race and a row are: points 2, 3 and 4, and the order of the refusals of each function."""
 
 import itertools
 import unittest
 
-from wordrace.errors import NoDie, NoRace, NoRow, NoWord
+from wordrace.counts import ended_rows, open_rows
+from wordrace.errors import NoDie, NoRace, NoRow, NoWord, Over, TooMany
+from wordrace.notes import shown
+from wordrace.races import answer, mean, odds, shares, waiting
 from wordrace.words import beginnings, ended, overlaps, state_of
 
 FAR = 10 ** 5000
@@ -54,13 +57,21 @@ BAD_ROWS = (
 )
 
 
-# Each function, handed a die and a list of words (and a row), as far as it takes them.
+# Each function, handed a die and what it takes of words, a row and a number of throws.
+ONE_WORD_FUNCTIONS = (("waiting", waiting), ("answer", answer))
+TWO_WORDS_FUNCTIONS = (("overlaps", overlaps), ("odds", odds))
 RACE_FUNCTIONS = (
     ("beginnings", lambda die, words, row: beginnings(die, words)),
     ("state_of", state_of),
     ("ended", ended),
+    ("shares", shares),
+    ("mean", mean),
+    ("open_rows", lambda die, words, row: open_rows(die, words, len(row))),
+    ("ended_rows", lambda die, words, row: ended_rows(die, words, len(row))),
+    ("shown", lambda die, words, row: shown(die, words)),
 )
-ROW_FUNCTIONS = (("state_of", state_of), ("ended", ended))
+ROW_FUNCTIONS = (("state_of", state_of), ("ended", ended), ("shares", shares), ("mean", mean))
+COUNT_FUNCTIONS = (("open_rows", open_rows), ("ended_rows", ended_rows))
 
 
 class Dice(unittest.TestCase):
@@ -74,6 +85,13 @@ class Dice(unittest.TestCase):
                     self.assertEqual(beginnings(die, [last]), ["", last])
                     self.assertEqual(state_of(die, [last], last), last)
                     self.assertEqual(ended(die, [last], last), (1, 0))
+                    self.assertEqual(shares(die, [last], ""), [(1, 1)])
+                    self.assertEqual(mean(die, [last], ""), waiting(die, last))
+                    self.assertGreater(odds(die, last, "a")[0], 0)
+                    self.assertNotEqual(answer(die, last), last)
+                    self.assertEqual(open_rows(die, [last], 1), many - 1)
+                    self.assertEqual(ended_rows(die, [last], 1), [1])
+                    self.assertTrue(shown(die, [last]).endswith(": " + last))
 
     def test_every_weight_from_one_to_nine_is_taken(self):
         for weight in range(1, 10):
@@ -83,8 +101,12 @@ class Dice(unittest.TestCase):
     def test_no_die_is_refused_by_each_function(self):
         for which, die in enumerate(BAD_DICE):
             with self.subTest(which=which):
-                with self.assertRaises(NoDie):
-                    overlaps(die, "a", "a")
+                for name, asked in ONE_WORD_FUNCTIONS:
+                    with self.subTest(name=name), self.assertRaises(NoDie):
+                        asked(die, "a")
+                for name, asked in TWO_WORDS_FUNCTIONS:
+                    with self.subTest(name=name), self.assertRaises(NoDie):
+                        asked(die, "a", "b")
                 for name, asked in RACE_FUNCTIONS:
                     with self.subTest(name=name), self.assertRaises(NoDie):
                         asked(die, ["a"], "a")
@@ -100,17 +122,27 @@ class Words(unittest.TestCase):
                     self.assertEqual(beginnings(die, [word])[-1], word)
                     self.assertEqual(state_of(die, [word], word), word)
                     self.assertEqual(ended(die, [word], word), (many, 0))
+                    self.assertEqual(shares(die, [word], ""), [(1, 1)])
+                    self.assertEqual(mean(die, [word], ""), waiting(die, word))
+                    self.assertGreater(odds(die, word, "b" * many)[0], 0)
+                    self.assertEqual(ended_rows(die, [word], many), [1])
+                    self.assertEqual(open_rows(die, [word], many), 4 ** many - 1)
+                    self.assertEqual(shown(die, [word]), "1 2 3 4: " + word)
 
     def test_each_sign_of_the_die_is_taken(self):
         for many in (2, 3, 4):
             for sign in "abcd"[:many]:
                 with self.subTest(many=many, sign=sign):
                     self.assertEqual(overlaps([1] * many, sign, sign), [1])
+                    self.assertEqual(waiting([1] * many, sign), (many, 1))
 
     def test_no_word_is_refused_by_each_function(self):
         for die, words in BAD_WORDS:
             for word in words:
                 with self.subTest(die=die, word=word):
+                    for name, asked in ONE_WORD_FUNCTIONS:
+                        with self.subTest(name=name), self.assertRaises(NoWord):
+                            asked(die, word)
                     for name, asked in RACE_FUNCTIONS:
                         with self.subTest(name=name), self.assertRaises(NoWord):
                             asked(die, [word], "")
@@ -124,12 +156,13 @@ class Words(unittest.TestCase):
                             with self.subTest(name=name), self.assertRaises(NoWord):
                                 asked(die, race, "")
 
-    def test_no_word_is_refused_by_overlaps_on_either_side(self):
+    def test_no_word_is_refused_on_either_side(self):
         for die, words in BAD_WORDS:
             for word in words:
                 for one, other in ((word, "ab"), ("ab", word), (word, word)):
-                    with self.subTest(die=die, one=one, other=other), self.assertRaises(NoWord):
-                        overlaps(die, one, other)
+                    for name, asked in TWO_WORDS_FUNCTIONS:
+                        with self.subTest(name=name, die=die, one=one, other=other), self.assertRaises(NoWord):
+                            asked(die, one, other)
 
 
 class Races(unittest.TestCase):
@@ -139,6 +172,11 @@ class Races(unittest.TestCase):
                 self.assertEqual(beginnings([1, 2, 3, 4], race)[0], "")
                 self.assertEqual(state_of([1, 2, 3, 4], race, race[-1]), race[-1])
                 self.assertEqual(ended([1, 2, 3, 4], race, race[-1]), (len(race[-1]), len(race) - 1))
+                self.assertEqual(len(shares([1, 2, 3, 4], race, "")), len(race))
+                self.assertEqual(len(mean([1, 2, 3, 4], race, "")), 2)
+                self.assertEqual(open_rows([1, 2, 3, 4], race, 0), 1)
+                self.assertGreaterEqual(ended_rows([1, 2, 3, 4], race, len(race[-1]))[-1], 1)
+                self.assertEqual(shown([1, 2, 3, 4], race), "1 2 3 4: " + " ".join(race))
 
     def test_no_race_is_refused_by_each_function(self):
         for race in BAD_RACES:
@@ -150,12 +188,13 @@ class Races(unittest.TestCase):
     def test_words_are_refused_just_where_one_stands_within_another(self):
         texts = ["".join(signs) for many in (1, 2, 3, 4) for signs in itertools.product("ab", repeat=many)]
         for one, other in itertools.product(texts, repeat=2):
-            with self.subTest(one=one, other=other):
-                if one in other or other in one:
-                    with self.assertRaises(NoRace):
-                        beginnings([1, 1], [one, other])
-                else:
-                    self.assertIn(one, beginnings([1, 1], [one, other]))
+            for name, asked in RACE_FUNCTIONS:
+                with self.subTest(name=name, one=one, other=other):
+                    if one in other or other in one:
+                        with self.assertRaises(NoRace):
+                            asked([1, 1], [one, other], "")
+                    else:
+                        asked([1, 1], [one, other], "")
 
     def test_overlaps_asks_for_no_race(self):
         self.assertEqual(overlaps([1, 1], "ab", "ab"), [2])
@@ -169,6 +208,8 @@ class Rows(unittest.TestCase):
             with self.subTest(many=many):
                 self.assertEqual(state_of([1, 1], ["ab"], "b" * many), "")
                 self.assertIsNone(ended([1, 1], ["ab"], "b" * many))
+                self.assertEqual(shares([1, 1], ["ab"], "b" * many), [(1, 1)])
+                self.assertEqual(mean([1, 1], ["ab"], "b" * many), (4, 1))
 
     def test_each_sign_of_the_die_is_taken(self):
         for many in (2, 3, 4):
@@ -176,6 +217,8 @@ class Rows(unittest.TestCase):
             with self.subTest(row=row):
                 self.assertEqual(state_of([1] * many, ["aa"], row), "")
                 self.assertEqual(ended([1] * many, [row], row), (many, 0))
+                self.assertEqual(shares([1] * many, ["aa"], row), [(1, 1)])
+                self.assertEqual(mean([1] * many, ["aa"], row), (many + many * many, 1))
 
     def test_a_row_may_hold_words(self):
         self.assertEqual(state_of([1, 1], ["ab"], "ababb"), "")
@@ -191,8 +234,9 @@ class Rows(unittest.TestCase):
 
     def test_no_row_is_refused_although_a_word_ends_it_ahead_of_the_fault(self):
         for row in ("abab!", "ab" + "a" * 59, "abc"):
-            with self.subTest(row=row), self.assertRaises(NoRow):
-                ended([1, 1], ["ab"], row)
+            for name, asked in ROW_FUNCTIONS:
+                with self.subTest(name=name, row=row), self.assertRaises(NoRow):
+                    asked([1, 1], ["ab"], row)
 
 
 class Order(unittest.TestCase):
@@ -204,8 +248,13 @@ class Order(unittest.TestCase):
                 asked(die, words, row)
 
     def refuse_race(self, error, die, words):
-        with self.subTest(die=die, words=words), self.assertRaises(error):
-            beginnings(die, words)
+        for name, asked in (("beginnings", beginnings), ("shown", shown)):
+            with self.subTest(name=name, die=die, words=words), self.assertRaises(error):
+                asked(die, words)
+        for many in (0, 5, 60, -1, 61, FAR, -FAR):
+            for name, asked in COUNT_FUNCTIONS:
+                with self.subTest(name=name, die=die, words=words, far=abs(many) == FAR), self.assertRaises(error):
+                    asked(die, words, many)
 
     def test_no_die_goes_ahead_of_all(self):
         for die in ([], [1], [1, 0], [10, 1, 1], [1] * 5):
@@ -214,10 +263,16 @@ class Order(unittest.TestCase):
                 for row in ("", "a", "A", "a" * 61):
                     self.refuse(NoDie, die, words, row)
 
-    def test_no_die_goes_ahead_in_overlaps(self):
-        for one, other in (("", ""), ("A", "a"), ("a", "A"), ("aaaaaaa", "e"), ("e", "a")):
-            with self.subTest(one=one, other=other), self.assertRaises(NoDie):
-                overlaps([1, 1, 1, 1, 1], one, other)
+    def test_no_die_goes_ahead_of_single_words(self):
+        for die in ([], [1], [1, 0], [10, 1, 1], [1] * 5):
+            for one, other in (("", ""), ("A", "a"), ("a", "A"), ("aaaaaaa", "e"), ("e", "a"), ("a", "a"), ("a", "bb")):
+                for name, asked in TWO_WORDS_FUNCTIONS:
+                    with self.subTest(name=name, die=die, one=one, other=other), self.assertRaises(NoDie):
+                        asked(die, one, other)
+            for word in ("", "A", "e", "aaaaaaa", "aaaaaa", "abcd"):
+                for name, asked in ONE_WORD_FUNCTIONS:
+                    with self.subTest(name=name, die=die, word=word), self.assertRaises(NoDie):
+                        asked(die, word)
 
     def test_no_word_goes_ahead_of_no_race_and_no_row(self):
         for words in (
@@ -226,13 +281,36 @@ class Order(unittest.TestCase):
             ["a", "aaaaaaa"], ["ab", "abc"],
         ):
             self.refuse_race(NoWord, [1, 1], words)
-            for row in ("", "a", "c", "a" * 61):
+            for row in ("", "a", "ab", "c", "a" * 61):
                 self.refuse(NoWord, [1, 1], words, row)
 
-    def test_no_race_goes_ahead_of_no_row(self):
+    def test_no_word_goes_ahead_of_no_race_in_odds(self):
+        for one, other in (
+            ("c", "c"), ("", ""), ("", "a"), ("a", ""), ("ab", "c"), ("c", "ab"), ("aaaaaaa", "a"), ("a", "aaaaaaa"),
+            ("aaaaaaa", "aaaaaaa"), ("A", "A"), ("aab", "aabc"),
+        ):
+            with self.subTest(one=one, other=other), self.assertRaises(NoWord):
+                odds([1, 1], one, other)
+
+    def test_no_word_goes_ahead_of_too_many(self):
+        for word in ("aaaaaaa", "a" * 99, "aaaaac", "Aaaaaa", "aaaaa "):
+            with self.subTest(word=word), self.assertRaises(NoWord):
+                answer([1, 1], word)
+        with self.assertRaises(TooMany):
+            answer([1, 1], "aaaaaa")
+
+    def test_no_race_goes_ahead_of_no_row_and_over(self):
         for words in ([], ["a", "a"], ["a", "ba"], ["ab", "bb", "abb"], ["aa", "ab", "ba", "bb", "aaa"]):
-            for row in ("c", "A", " ", "a" * 61, "e" * 99):
+            self.refuse_race(NoRace, [1, 1], words)
+            for row in ("", "ab", "aba", "c", "A", " ", "a" * 61, "e" * 99):
                 self.refuse(NoRace, [1, 1], words, row)
+
+    def test_no_row_goes_ahead_of_over(self):
+        for row in ("abc", "cab", "ab ", "ABab", "ab" * 31, "ab" + "b" * 59, "b" * 99 + "ab"):
+            self.refuse(NoRow, [1, 1], ["ab"], row)
+        for asked in (shares, mean):
+            with self.assertRaises(Over):
+                asked([1, 1], ["ab"], "ab" * 30)
 
 
 if __name__ == "__main__":
